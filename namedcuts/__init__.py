@@ -1,0 +1,1 @@
+"""Namedcuts: tables in parts whose bounds are only named."""
