@@ -116,14 +116,13 @@ def is_step(order, one, other):
 
 
 def tops(order, mask):
-    """TOPS of a CUT."""
+    """TOPS of a CUT, by its set of NAMEs."""
     return names_of(order, _ends(order.above, order.below, mask))
 
 
 def bottoms(order, mask):
-    """BOTTOMS of a CUT."""
-    every = (1 << len(order.names)) - 1
-    return names_of(order, _ends(order.below, order.above, every & ~mask))
+    """BOTTOMS of a CUT, by its set of NAMEs."""
+    return names_of(order, _ends(order.below, order.above, ~mask))
 
 
 def _ends(onward, back, mask):
