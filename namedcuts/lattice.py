@@ -5,18 +5,32 @@ if the CUT with the number N, in the order of the document, HAS it."""
 
 
 class Lattice:
-    """The CUTS of an Order: masks are their sets of NAMEs, named the tuples of these, had tells which have a NAME."""
+    """The CUTS of an Order: masks are their sets of NAMEs, named the tuples of these, had tells which have a NAME.
 
-    def __init__(self, order):
+    It may be made with the named of an Order with fewer FACTS. So it goes on to use their numbers, of which every
+    has only those of its own CUTS; all others are to be left out of what its methods are asked of."""
+
+    def __init__(self, order, named=None):
         self.order = order
-        self.named = all_named(order)
+        self.named = all_named(order) if named is None else named
         self.masks = [mask_of(order, names) for names in self.named]
+        self.every = sum([1 << number for number, cut in enumerate(self.masks) if is_closed(order, cut)])
         self.had = {name: self.cuts_with(1 << place) for place, name in enumerate(order.names)}
-        self.every = self.cuts_with(0)
 
     def cuts_with(self, mask):
         """Which CUTS have all of some NAMEs, by a set of these."""
-        return sum([1 << number for number, cut in enumerate(self.masks) if cut & mask == mask])
+        return self.every & sum([1 << number for number, cut in enumerate(self.masks) if cut & mask == mask])
+
+    def cuts_above(self, which):
+        """Which CUTS have one of some CUTS within."""
+        found = 0
+        for cut in self.lowest(which):
+            found |= self.cuts_with(cut)
+        return found
+
+    def first(self, which):
+        """The first one of some CUTS, as a tuple of NAMEs."""
+        return self.named[(which & -which).bit_length() - 1]
 
     def of_term(self, term):
         """Which CUTS HAVE a TERM."""

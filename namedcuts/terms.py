@@ -3,11 +3,12 @@
 from namedcuts.cuts import is_cut_of, need_cut, need_number, need_world, world_with
 from namedcuts.errors import BadCut, BadPaper, BadTerm
 from namedcuts.frames import order_of
-from namedcuts.kinds import are_words, is_tuple_of, is_whole, is_word
+from namedcuts.kinds import are_words, is_name, is_tuple_of, is_whole, is_word
 from namedcuts.lattice import Lattice, mask_of
 
 ENDS = ("-", "+")
 CHOICES = ("least", "greatest")
+EDGES = ("lo", "hi")
 MOST_TERMS = 40
 MOST_DEEP = 20
 MOST_BOUNDS = 300
@@ -27,6 +28,15 @@ def see_term(order, thing):
 
 def is_term(names, thing):
     """Whether anything is a TERM of some NAMES."""
+    return _is_term(names, thing, False)
+
+
+def is_script_term(names, thing):
+    """Whether anything is a script TERM of some NAMES: bounds of PARTs may stand for these."""
+    return _is_term(names, thing, True)
+
+
+def _is_term(names, thing, with_parts):
     waiting = [(thing, 1)]
     bounds = 0
     # What is too deep, or has too many NAMEs and ends, is left at once: it may have far more of them behind.
@@ -34,13 +44,18 @@ def is_term(names, thing):
         part, deep = waiting.pop()
         if deep > MOST_DEEP:
             return False
-        if is_word(part, ENDS) or is_word(part, names):
+        if is_word(part, ENDS) or is_word(part, names) or (with_parts and _is_edge(part)):
             bounds += 1
         elif is_tuple_of(part, 2, MOST_TERMS + 1) and is_word(part[0], CHOICES):
             waiting.extend([(inner, deep + 1) for inner in part[1:]])
         else:
             return False
     return bounds <= MOST_BOUNDS
+
+
+def _is_edge(thing):
+    """Whether anything is the bound of a PART in a script TERM."""
+    return is_tuple_of(thing, 2, 2) and is_word(thing[0], EDGES) and is_name(thing[1])
 
 
 def value(frame, world, term):
