@@ -110,7 +110,7 @@ def _place_in_deed(names, pieces, deed):
 
 def _is_formed(names, deed):
     """Whether it is a DEED but "do", whatever its THEN and ELSE are."""
-    if not is_tuple_of(deed, 1, 5) or not is_word(deed[0], FORMS):
+    if not is_tuple_of(deed, 2, 5) or not isinstance(deed[0], str) or deed[0] not in FORMS:
         return False
     sorts = FORMS[deed[0]]
     return len(deed) == len(sorts) + 1 and all([_is_of(names, sort, thing) for sort, thing in zip(sorts, deed[1:])])

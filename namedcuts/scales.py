@@ -101,15 +101,12 @@ class Bounds:
         return [Bounds(Lattice(narrow, self.lattice.named)) for narrow in orders]
 
     def _pair(self, one, other):
-        """The first two NAMEs of the NORMAL forms of two worths of which it is not told how they stand."""
+        """The first two NAMEs of the NORMAL forms of two worths of which it is not told how they stand.
+
+        Of NAMEs that are upto each other NORMAL forms have the first one alone: so no two of these meet here."""
+        order = self.lattice.order
         groups = [self.lattice.greatests(worth & self.lattice.every) for worth in (one, other)]
         names = sorted(set([name for both in groups for group in both for name in group]))
         pairs = [(low, high) for number, low in enumerate(names) for high in names[number + 1:]]
-        return [pair for pair in pairs if not self._is_told(pair[0], pair[1])][0]
-
-    def _is_told(self, one, other):
-        """Whether one of two NAMEs is told to be ahead of the other, or both to be upto each other."""
-        order = self.lattice.order
-        if order.leads_past(one, other) or order.leads_past(other, one):
-            return True
-        return order.leads(one, other) and order.leads(other, one)
+        return [(low, high) for low, high in pairs
+                if not order.leads_past(low, high) and not order.leads_past(high, low)][0]

@@ -231,7 +231,8 @@ class Done(Forms):
         self.bad((0,), (("do", "none", ("a",)),), book)
         for thing in NO_NAMES + ("y", "zz"):
             self.bad((0,), (("do", thing, ("a", "p", "b")),), book)
-        for deed in (("do", "z"), ("do", "z", ("a", "p", "b"), ()), ["do", "z", ("a", "p", "b")]):
+        for deed in (("do", "z"), ("do", "z", ("a", "p", "b"), ()), ["do", "z", ("a", "p", "b")], ("Do", "z", ("a", "p", "b")),
+                     ("call", "z", ("a", "p", "b")), ("need", "z", ("a", "p", "b")), (None, "none", ()), ("none", "none", ())):
             self.bad((0,), (deed,), book)
 
     def test_args_in_a_body(self):

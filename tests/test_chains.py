@@ -19,6 +19,11 @@ LEFT = [cut for cut in all_cuts(SIX) if cut not in RING["x"] + RING["y"] + RING[
 SIZES = {"k": (0,), "l": (1,), "m": (2,), "n": (3, 4, 5, 6)}
 THREE = tuple(sorted([part_with(name, all_cuts(SIX), lot) for name, lot in RING.items()] + [
     part_with(name, all_cuts(SIX), [cut for cut in LEFT if len(cut) in sizes]) for name, sizes in SIZES.items()]))
+# Two parts in a ring, where the first cut of x is not within the cut of y that has one of x within.
+FOUR = (tuple("pqrs"), ())
+TURN = {"x": [("p",), ("q",), ("r", "s")], "y": [("s",), ("q", "r")], "k": [()], "l": [("r",)],
+        "m": [("p", "q"), ("p", "r"), ("p", "s"), ("q", "s")], "n": [cut for cut in all_cuts(FOUR) if len(cut) > 2]}
+PAIR = tuple(sorted(part_with(name, all_cuts(FOUR), lot) for name, lot in TURN.items()))
 ABC = (("a", "b", "c"), (("a", "upto", "b"), ("b", "upto", "c")))
 LINE = (("k", "b", "c", "h"), ("l", "c", "+", "h"), ("m", "-", "a", "h"), ("n", "a", "b", "h"), ("o", "b", "a", "h"))
 ORDER = ("m", "n", "k", "l")
@@ -145,7 +150,8 @@ class Chains(unittest.TestCase):
                       (("y", ("p",), ("p", "q")), second), (("x", ("p",), ("p", "q")), ("x", ("r",), ("q", "r"))),
                       (("y", ("p",), ("p", "q")), ("x", ("r",), ("q", "r"))), (first, ("y", ("r",), ("p", "r"))),
                       (first, ("y", ("r",), ("p", "q", "r"))), (("x", ("q",), ("p", "q")), second),
-                      (("x", (), ("p", "q")), second), (("x", ("p",), ("q", "r")), second),
+                      (("x", (), ("p", "q")), second), (("x", ("p",), ("p",)),), (("x", ("q", "r"), ("p", "q")), second),
+                      (first, ("y", ("p", "q"), ("q", "r"))), (("x", ("p",), ("q", "r")), second),
                       (("z", ("p",), ("p", "q")), second), (first, ("", ("r",), ("q", "r"))),
                       (("x", ("q", "p"), ("p", "q")), second), (first, ("y", ("r",), ("r", "q"))),
                       (first, ("y", ("s",), ("q", "r"))), (first, ("y", (1,), ("q", "r"))), (first, ("y", ("r", "r"), ("q", "r"))),
@@ -170,6 +176,20 @@ class Chains(unittest.TestCase):
             self.refused("ring", SIX, THREE, ("ring", links[:at] + links[at + 1:]))
             self.refused("ring", SIX, THREE, ("ring", links[:at] + (links[at],) + links[at:]))
             self.refused("ring", SIX, THREE, ("ring", (links[at],)))
+
+    def test_the_cuts_of_a_link_are_one_within_the_other(self):
+        word, shown = chain_paper(FOUR, PAIR)
+        self.assertEqual((word, set(shown)), ("ring", {("x", ("q",), ("q", "r")), ("y", ("s",), ("r", "s"))}))
+        self.assertEqual(check_chain(FOUR, PAIR, ("ring", shown)), "ring")
+        self.refused("ring", FOUR, PAIR, ("ring", (("x", ("p",), ("q", "r")), ("y", ("s",), ("r", "s")))))
+        # The same with a name that all cuts have but one.
+        frame = (tuple("pqrst"), tuple(("t", "upto", name) for name in "pqrs"))
+        lots = {name: [cut + ("t",) for cut in lot] for name, lot in TURN.items()}
+        lots["j"] = [()]
+        layout = tuple(sorted(part_with(name, all_cuts(frame), lot) for name, lot in lots.items()))
+        word, shown = chain_paper(frame, layout)
+        self.assertEqual((word, set(shown)), ("ring", {("x", ("q", "t"), ("q", "r", "t")), ("y", ("s", "t"), ("r", "s", "t"))}))
+        self.refused("ring", frame, layout, ("ring", (("x", ("p", "t"), ("q", "r", "t")), ("y", ("s", "t"), ("r", "s", "t")))))
 
     def test_wrong_forms(self):
         link = ("x", ("p",), ("p", "q"))

@@ -177,6 +177,17 @@ class Language(unittest.TestCase):
                 if isinstance(node, ast.Name) and isinstance(node.ctx, ast.Store):
                     self.assertNotIn(node.id, own, path)
 
+    def test_l15_dicts_and_lists_of_modules_are_only_read(self):
+        tables = {node.targets[0].id for _, tree in self.trees() for node in tree.body
+                  if isinstance(node, ast.Assign) and isinstance(node.value, (ast.Dict, ast.List))}
+        for path, tree in self.trees():
+            read = [node.value for node in ast.walk(tree)
+                    if isinstance(node, ast.Subscript) and isinstance(node.ctx, ast.Load)]
+            read += [item for node in ast.walk(tree) if isinstance(node, ast.Compare) for item in node.comparators]
+            for node in ast.walk(tree):
+                if isinstance(node, ast.Name) and isinstance(node.ctx, ast.Load) and node.id in tables:
+                    self.assertIn(node, read, (path, node.lineno))
+
     def test_l12_l17_l26_names(self):
         for path, tree in self.trees():
             attributes = {node.attr for node in ast.walk(tree) if isinstance(node, ast.Attribute)}

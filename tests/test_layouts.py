@@ -94,6 +94,9 @@ class Forms(Layouts):
             for thing in WRONG:
                 if thing != () or not isinstance(thing, tuple):
                     self.assertRaises(BadLayout, call, AB, thing)
+                    self.assertRaises(BadLayout, check_fault, AB, thing, None)
+                    self.assertRaises(BadLayout, parts_at, AB, thing, None, None)
+                    self.assertRaises(BadLayout, parts_of, AB, thing, None)
         self.assertRaises(BadFrame, parts_at, ((), ()), None, None, None)
         self.assertRaises(BadFrame, parts_of, ((), ()), None, None)
         self.assertRaises(BadFrame, check_fault, ((), ()), None, None)

@@ -212,6 +212,24 @@ class Books(Runs):
         book = (("go", (("bound", "q"),), (("need", ("lo", "q"), "q"),)),)
         self.assertEqual(deeds_in(AB, book, TWO, (("do", "go", ("b",)),), WORLD), (("need", ("lo", "q"), "b"),))
 
+    def test_in_each_deed(self):
+        params = (("part", "p"), ("part", "q"), ("part", "new"), ("bound", "u"))
+        body = (("split", "p", "a", "p", "new"), ("shift", "p", "new", "u"), ("join", "p", "new", "p"), ("move", "p", "p"),
+                ("split", "p", "u", "new", "p"), ("join", "new", "p", "new"), ("call", "new", "p"), ("off", "q"),
+                ("on", "q", "a", ("greatest", "u", ("lo", "p")), "q"), ("need", "a", ("hi", "q")),
+                ("if", ("lo", "p"), "u", (("on", "new", "u", "a", "u"),), ()), ("if", "u", ("lo", "p"), (), (("off", "p"),)))
+        given = {"p": "x", "q": "y", "new": "z", "u": ("least", "b", ("hi", "x"))}
+        layout = (("x", "-", "b", "home"), ("y", "b", "+", "hut"))
+        book = (("all", params, body),)
+        script = (("do", "all", tuple(given[word] for _, word in params)),)
+        u = given["u"]
+        self.assertEqual(deeds_in(AB, book, layout, script, WORLD), (
+            ("split", "x", "a", "x", "z"), ("shift", "x", "z", u), ("join", "x", "z", "x"), ("move", "x", "p"),
+            ("split", "x", u, "z", "x"), ("join", "z", "x", "z"), ("call", "z", "x"), ("off", "y"),
+            ("on", "y", "a", ("greatest", u, ("lo", "x")), "q"), ("need", "a", ("hi", "y")), ("on", "z", u, "a", "u"),
+            ("off", "x")))
+        self.makes(layout, script, (("y", 3, 7, "q"), ("z", 7, 3, "u")), book=book)
+
     def test_args_go_on_into_pieces(self):
         book = (("y", (("part", "x"), ("bound", "t")), (("split", "x", "t", "x", "z"), ("need", ("lo", "x"), "t"))),
                 ("w", (("bound", "x"), ("part", "t")), (("if", "x", "b", (("do", "y", ("t", ("greatest", "x", ("lo", "t")))),),
