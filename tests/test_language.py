@@ -211,6 +211,14 @@ class Language(unittest.TestCase):
                 if token.type != tokenize.COMMENT and not docstring:
                     self.assertIsNone(BARRED_WORDS.search(token.string), (path, token.start))
 
+    def test_l18_no_name_is_a_method_and_an_attribute(self):
+        for name, node in self.nodes(ast.ClassDef):
+            methods = [item.name for item in node.body if isinstance(item, ast.FunctionDef)]
+            self.assertEqual(len(methods), len(set(methods)), (name, node.name))
+            stored = {item.attr for item in ast.walk(node)
+                      if isinstance(item, ast.Attribute) and isinstance(item.ctx, ast.Store)}
+            self.assertFalse(stored & set(methods), (name, node.name))
+
     def test_l20_is(self):
         for name, node in self.nodes(ast.Compare):
             for operator, right in zip(node.ops, node.comparators):
