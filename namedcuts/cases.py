@@ -99,7 +99,8 @@ def _parting(run, other):
     return None
 
 
-def _stage_with(frame, book, layout, scripts):
+def stage_with(frame, book, layout, scripts):
+    """The Stage of a FRAME, a BOOK and a LAYOUT; BadScript of the first of some SCRIPTs that is none."""
     stage = Stage(frame, book, layout)
     for script in scripts:
         stage.see(script)
@@ -108,13 +109,13 @@ def _stage_with(frame, book, layout, scripts):
 
 def cases(frame, book, layout, script):
     """The tuple of the CASES of a SCRIPT."""
-    stage = _stage_with(frame, book, layout, [script])
+    stage = stage_with(frame, book, layout, [script])
     return tuple([(stage.facts_of(run), *run.outcome()) for run in stage.runs(script)])
 
 
 def case_of(frame, book, layout, script, world):
     """The index of the CASE whose FACTS a WORLD keeps."""
-    stage = _stage_with(frame, book, layout, [script])
+    stage = stage_with(frame, book, layout, [script])
     need_world(stage.order, world)
     kept = [run.scale.lattice.order.fits(world) for run in stage.runs(script)]
     return kept.index(True)
@@ -122,7 +123,7 @@ def case_of(frame, book, layout, script, world):
 
 def stages(frame, book, layout, script):
     """For each CASE a pair of its FACTS and the pairs of each DEED that changes something and the LAYOUT behind it."""
-    stage = _stage_with(frame, book, layout, [script])
+    stage = stage_with(frame, book, layout, [script])
     return tuple([(stage.facts_of(run), _stages_of(run)) for run in stage.runs(script)])
 
 
@@ -132,7 +133,7 @@ def _stages_of(run):
 
 def first_fault(frame, book, layout, script):
     """The FIRST FAULT of a SCRIPT: (NUMBER, WORLD, KEY), or None."""
-    stage = _stage_with(frame, book, layout, [script])
+    stage = stage_with(frame, book, layout, [script])
     found = [_fault_of(run) for run in stage.runs(script)]
     return min([fault for fault in found if fault is not None], key=_number_of, default=None)
 
@@ -158,7 +159,7 @@ def alike(frame, book, layout, one, other):
 
 def parted(frame, book, layout, one, other):
     """A PARTING of two SCRIPTs, or None."""
-    stage = _stage_with(frame, book, layout, [one, other])
+    stage = stage_with(frame, book, layout, [one, other])
     runs = stage.runs(one)
     stage.runs(other)
     return stage.parting(runs, other)
@@ -166,7 +167,7 @@ def parted(frame, book, layout, one, other):
 
 def needless(frame, book, layout, script):
     """The ascending tuple of the indexes of the NEEDLESS DEEDs of a SCRIPT."""
-    stage = _stage_with(frame, book, layout, [script])
+    stage = stage_with(frame, book, layout, [script])
     runs = stage.runs(script)
     less = [script[:number] + script[number + 1:] for number in range(len(script))]
     return tuple([number for number, one in enumerate(less) if stage.parting(runs, one) is None])
@@ -174,7 +175,7 @@ def needless(frame, book, layout, script):
 
 def may_change(frame, book, layout, script):
     """The ascending tuple of the indexes N such that the DEEDs N and N + 1 of a SCRIPT MAY CHANGE."""
-    stage = _stage_with(frame, book, layout, [script])
+    stage = stage_with(frame, book, layout, [script])
     runs = stage.runs(script)
     turned = [(*script[:number], *script[number:number + 2][::-1], *script[number + 2:])
               for number in range(len(script) - 1)]

@@ -18,11 +18,13 @@ def is_cut(frame, thing):
 
 def is_cut_of(order, thing):
     """Whether anything is a CUT of an Order."""
-    if not are_words(thing, order.names):
-        return False
+    return are_names(order, thing) and is_closed(order, mask_of(order, thing))
+
+
+def are_names(order, thing):
+    """Whether anything is an ascending tuple of unlike NAMEs of an Order."""
     # What names_of tells ascends: so what is equal to it does, and has no NAME twice.
-    mask = mask_of(order, thing)
-    return names_of(order, mask) == thing and is_closed(order, mask)
+    return are_words(thing, order.names) and names_of(order, mask_of(order, thing)) == thing
 
 
 def need_world(order, thing):

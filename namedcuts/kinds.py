@@ -30,6 +30,23 @@ def are_words(thing, words):
     return isinstance(thing, tuple) and all([is_word(item, words) for item in thing])
 
 
+def is_made_of(thing, inner_of, most_deep, most):
+    """Whether it and all within it are things of which inner_of tells the ones within, None of what is no such thing.
+
+    They stand at most so deep, one without others in it being 1 deep, and are at most so many, itself counted."""
+    waiting = [(thing, 1)]
+    many = 0
+    # What is too deep, or has too many in it, is left at once: it may have far more of them behind.
+    while waiting and many <= most:
+        part, deep = waiting.pop()
+        many += 1
+        within = inner_of(part)
+        if deep > most_deep or within is None:
+            return False
+        waiting.extend([(inner, deep + 1) for inner in within])
+    return many <= most
+
+
 def is_tuple_of(thing, least, most):
     """Whether it is a tuple of so many things."""
     return isinstance(thing, tuple) and least <= len(thing) <= most

@@ -18,10 +18,16 @@ def map_of(frame, layout):
 
 def mapped(lattice, layout):
     """The MAP of a LAYOUT in a Lattice; BadQuestion of one that has none."""
+    lots = lots_apart(lattice, layout)
+    return tuple([_name_at(lots, number) for number in range(len(lattice.named))])
+
+
+def lots_apart(lattice, layout):
+    """A dict from the names of the PARTs to which CUTS are in them; BadQuestion of a LAYOUT that has no MAP."""
     lots = lots_of(lattice, layout)
     if in_two(list(lots.values())):
         raise BadQuestion("a CUT is in two PARTs")
-    return tuple([_name_at(lots, number) for number in range(len(lattice.named))])
+    return lots
 
 
 def _name_at(lots, number):

@@ -58,6 +58,13 @@ def _is_edge(thing):
     return is_tuple_of(thing, 2, 2) and is_word(thing[0], EDGES) and is_name(thing[1])
 
 
+def names_in(term):
+    """The list of the NAMEs in a TERM, as often as they stand there."""
+    if isinstance(term, str):
+        return [] if term in ENDS else [term]
+    return [name for inner in term[1:] for name in names_in(inner)]
+
+
 def value(frame, world, term):
     """The value of a TERM in a WORLD: an integer, "-" or "+"."""
     order = order_of(frame)
