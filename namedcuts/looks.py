@@ -124,7 +124,7 @@ def fewest_names(frame, layout):
     names = lattice.order.names
     for many in range(len(names)):
         # Of an ascending tuple combinations come in ascending order.
-        for some in combinations(names, many):
+        for some in combinations(list(names), many):
             if _unlike(lattice.named, things, some) is None:
                 return some
     return names

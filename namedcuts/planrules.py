@@ -102,7 +102,7 @@ def check_rule(frame, layout, ask, rule, paper):
     lattice = Lattice(order)
     lots_apart(lattice, layout)
     word, name, world = paper
-    part = [part for part in layout if part[0] == name][0]
+    part = [one for one in layout if one[0] == name][0]
     read, taken = _read_and_taken(_only(lattice, world), part, ask, dict(rule))
     if word == "missed" and not read & ~taken:
         raise BadPaper("missed")
