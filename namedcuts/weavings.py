@@ -21,17 +21,20 @@ def word_of(manner, path, weaving):
 
 def done(scene, weaving):
     """The list of what each EVENT tells, and the word with which the question ends; BadWeaving of what is none."""
-    if not is_tuple_of(weaving, 2, 2) or not _is_begun(scene, weaving[0]) or not is_tuple_of(weaving[1], 0, MOST_EVENTS):
+    if not _is_formed(scene, weaving):
         raise BadWeaving(-1)
-    moment = Moment(scene, weaving[0])
+    had, events = weaving
+    moment = Moment(scene, had)
     told = []
-    for number, event in enumerate(weaving[1]):
+    for number, event in enumerate(events):
         if not moment.can_come(event):
             raise BadWeaving(number)
         told.append(moment.do(event))
     return told, moment.word
 
 
-def _is_begun(scene, thing):
-    """Whether anything can be HAD: a COPY lies at a SEAT."""
-    return isinstance(thing, bool) and not (thing and scene.seats[0] == ())
+def _is_formed(scene, thing):
+    """Whether anything is a WEAVING, whatever its EVENTs are: a COPY at first can lie at a SEAT only."""
+    if not is_tuple_of(thing, 2, 2) or not isinstance(thing[0], bool) or not is_tuple_of(thing[1], 0, MOST_EVENTS):
+        return False
+    return not thing[0] or scene.seats[0] != ()
