@@ -1,6 +1,8 @@
 from itertools import combinations, product
 from random import Random
+from unittest.mock import patch
 
+from namedcuts import looks
 from namedcuts.cuts import cuts
 from namedcuts.errors import BadFrame, BadLayout, BadNames, BadPaper, BadQuestion, TooMany
 from namedcuts.looks import check_looks, enough, fewest_names, least_looks, on_looks, wanted_names
@@ -116,6 +118,14 @@ class LeastLooks(Refusals):
                     self.shown(frame, layout)
                 except TooMany as error:
                     self.assertEqual((error.most, frame), (900, SEVEN))
+
+    def test_too_many_rows(self):
+        rows = on_looks(AB, ODDLY)[2]
+        with patch.object(looks, "MOST_ROWS", len(rows)):
+            self.assertEqual(on_looks(AB, ODDLY)[2], rows)
+        with patch.object(looks, "MOST_ROWS", len(rows) - 1):
+            self.refused(TooMany, {"most": len(rows) - 1}, on_looks, AB, ODDLY)
+        self.assertEqual(looks.MOST_ROWS, 900)
 
     def test_seven_looks_at_seven_names(self):
         # The numbers of NAMEs in the CUT, from 0 to 7, tell eight PARTs apart.

@@ -53,7 +53,7 @@ TOO_MUCH = (ands(4), ands(5), ands(4, ("or", ())), ("or", (YES,) * 41), conditio
             ("and", (YES,) * 3000), ands(5000), ("and", (("or", (YES,) * 40), ("or", (YES,) * 40), ("or", (YES,) * 20))))
 NONE = tuple(thing for thing in WRONG) + (
     ["yes"], ("yes", ()), ("no", "a"), ("Yes",), ("ahead", "a"), ("ahead", "a", "b", "b"), ("ahead", "a", "c"), ("upto", ["a"], "b"),
-    ("upto", "a", ("least",)), ("ahead", ("lo", "x"), "a"), ["ahead", "a", "b"], ("and",), ("and", YES), ("or", [YES]), ("and", (YES, "no")),
+    ("upto", "a", ("least",)), ("ahead", ("lo", "x"), "a"), ["ahead", "a", "b"], ("and",), ("and", YES), ("and", (), ()), ("or", [YES]), ("and", (YES, "no")),
     ("not", YES), ("or", (YES, ("ahead", "a", None))), (ODD,), (ODD, ()), (ODD, "a", "b"), ("ahead", ODD, "b"), ("upto", "a", ODD),
     ("and", ODD), ("or", (ODD,)), ("ahead", nested(3000), "a"), ("and", (nested(3000),)), ("need", "a", "b"))
 

@@ -187,7 +187,8 @@ class Forms(Refusals):
         # ACT is 0 at rest; FLOOR is at most PRESENT, which is one more behind "point".
         for change, act, floor, is_so in ((0, 0, 0, True), (0, 1, 0, True), (0, 1, 1, False), (0, 2, 1, True), (0, 2, 2, False), (0, 3, 0, False),
                                           (0, -1, 0, False), (1, 0, 0, True), (1, 0, 1, True), (1, 0, 2, False), (1, 1, 0, False), (2, 0, 0, False),
-                                          (-1, 0, 0, False), (0, 0, -1, False), (0, 0, 1, False)):
+                                          (-1, 0, 0, False), (-1, 2, 0, False), (0, 0, -1, False),
+                                          (0, 0, 1, False)):
             standing = (change, act, floor, *self.RIGHT[3:])
             (self.is_one if is_so else self.no)(standing)
         for at in range(3):
@@ -224,7 +225,7 @@ class Forms(Refusals):
                 self.no(self.with_part("question", thing))
 
     def test_no_tuple_of_ten(self):
-        for thing in WRONG + (self.RIGHT[:9], self.RIGHT + ((),), list(self.RIGHT), ("good",), "good", (None,) * 10, (ODD,) * 10, ((),) * 10):
+        for thing in WRONG + (self.RIGHT[:9], self.RIGHT + ((),), self.RIGHT[:8] + self.RIGHT[9:], self.RIGHT[:8] + (True,) + self.RIGHT[8:], list(self.RIGHT), ("good",), "good", (None,) * 10, (ODD,) * 10, ((),) * 10):
             self.no(thing)
 
     def test_owns_tell_of_seats_alone(self):
@@ -237,3 +238,7 @@ class Forms(Refusals):
         new = behind(PLAIN, self.PATH, standing, ("read", B))
         self.assertEqual(new, self.with_part("question", (1, True, ((B, 2), (C, 1)), False)))
         self.assertEqual(behind(PLAIN, self.PATH, new, ("end",)), "twice")
+        # Where T is no SITE nothing is done to it.
+        away = ((A, (), ()), ((), (A,), ()))
+        standing = (0, 1, 0, (), (), ((A, 0),), True, False, False, ())
+        self.assertEqual(behind(PLAIN, away, standing, ("write", 0)), (0, 1, 0, ((A, 2),), (), ((A, 0),), True, True, True, ()))

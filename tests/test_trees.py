@@ -72,6 +72,17 @@ class Trees(Refusals):
                      ("a", line_of(40), "x"), ("b", "x", line_of(40)), ("a", tree_with(100), tree_with(100))):
             for call in (need_tree, depth, tree_map, trimmed):
                 self.bad(BadTree, tree, call, AB, tree)
+        # On the way by NO, and by both in turn.
+        no = turned = "x"
+        for many in range(42):
+            for tree in (no, turned):
+                if many <= 40:
+                    self.assertIs(need_tree(AB, tree), tree)
+                    self.assertEqual(depth(AB, tree), many)
+                else:
+                    self.bad(BadTree, tree, need_tree, AB, tree)
+            no = ("a", no, "y")
+            turned = ("b", turned, None) if many % 2 else ("a", "q", turned)
         # One thing that stands in many places is many things: no way may be gone without end.
         tree = "x"
         for _ in range(40):
