@@ -1,12 +1,10 @@
 """The LEAST LOOKS by which the PART of each CUT is found, and PAPERs on them; NAMEs that are ENOUGH."""
 
-from itertools import combinations
-
 from namedcuts.cuts import are_names
 from namedcuts.errors import BadNames, BadPaper, TooMany
 from namedcuts.frames import MOST_NAMES, order_of
 from namedcuts.kinds import is_tuple_of, is_whole, is_word
-from namedcuts.lattice import Lattice, is_closed, mask_of
+from namedcuts.lattice import Lattice, is_closed, mask_of, names_of
 from namedcuts.layouts import see_layout
 from namedcuts.maps import mapped
 from namedcuts.states import States
@@ -122,9 +120,9 @@ def fewest_names(frame, layout):
     """As few NAMEs as are ENOUGH, the first ones of these."""
     lattice, things = _mapped_in(frame, layout)
     names = lattice.order.names
-    for many in range(len(names)):
-        # Of an ascending tuple combinations come in ascending order.
-        for some in combinations(list(names), many):
-            if _unlike(lattice.named, things, some) is None:
-                return some
+    lots = [names_of(lattice.order, mask) for mask in range(1 << len(names))]
+    # All NAMEs together are ENOUGH, as each CUT has other ones.
+    for some in sorted(lots, key=lambda lot: (len(lot), lot)):
+        if _unlike(lattice.named, things, some) is None:
+            return some
     return names
