@@ -22,11 +22,11 @@ class Far:
         self.top = top
         self.begin = -1
 
-    def rest_of(self, rolled):
+    def rest_of(self, parts):
         """The HOUSEs of the parts that count, and whether there are others."""
-        if len(rolled.parts) >= self.top:
-            self.begin = max(self.begin, rolled.parts[self.top - 1][0])
-        return tuple([house for begin, house in rolled.parts if begin > self.begin]), self.begin >= 0
+        if len(parts) >= self.top:
+            self.begin = max(self.begin, parts[self.top - 1][0])
+        return tuple([house for begin, house in parts if begin > self.begin]), self.begin >= 0
 
 
 def are_even(one, other):
@@ -48,7 +48,7 @@ def unlike_tick(one, other):
         second.roll_on()
         if first.opened != second.opened or first.parts != second.parts:
             return first.number
-        spot = (first.number % period, *far.rest_of(first))
+        spot = (first.number % period, *far.rest_of(first.parts))
     return None
 
 
@@ -84,8 +84,8 @@ def rolled(rolling, ticks):
     names = tuple(["t" + letter for letter in LETTERS[:ticks]])
     facts = tuple([(one, "upto", other) for one, other in zip(names, names[1:])])
     table = rolled_to(Wheel(rolling), ticks)
-    bounds = table.bounds()
-    closed = list(zip(bounds, bounds[1:], table.houses()[::-1]))
+    bounds = table.bounds_now()
+    closed = list(zip(bounds, bounds[1:], table.houses_now()[::-1]))
     parts = [(_closed_name(end), _moment(begin), _moment(end), house) for begin, end, house in closed]
     layout = ((OPEN, _moment(bounds[-1]), "+", HOME), *sorted(parts))
     return (names, facts), layout, _script(bounds, parts)

@@ -62,7 +62,7 @@ def moved(frame, one, other):
 
 def on_range(frame, cuts):
     """A PAPER on whether there is a RANGE of some CUTs."""
-    lattice, some = _some(frame, cuts)
+    lattice, some = some_of(frame, cuts)
     if not some:
         return ("empty",)
     above = lattice.cuts_above(some)
@@ -73,7 +73,7 @@ def on_range(frame, cuts):
     return ("range", lattice.normal(above), lattice.normal(beyond))
 
 
-def _some(frame, cuts):
+def some_of(frame, cuts):
     """The Lattice of a FRAME, and the set of some CUTs of it; BadCuts of what is no tuple of unlike ones."""
     order = order_of(frame)
     if not isinstance(cuts, tuple) or not all([is_cut_of(order, cut) for cut in cuts]):
@@ -98,7 +98,7 @@ def _is_within(cut, other):
 
 def check_range(frame, cuts, paper):
     """The first word of a PAPER on whether there is a RANGE of some CUTs that holds; BadPaper of another one."""
-    lattice, some = _some(frame, cuts)
+    lattice, some = some_of(frame, cuts)
     word = _word_of(lattice.order, paper)
     if word is None:
         raise BadPaper("form")

@@ -96,6 +96,21 @@ class Order:
         What leads so to A leads so to B too, if there is a FACT from A to B, and A itself does if it is "ahead"."""
         return [sum([past >> place & 1 for past in self.past]) for place in range(len(self.names))]
 
+    def least_gaps(self):
+        """A dict from the pairs of NAMEs with a WAY from the one to the other to the least by which this is greater.
+
+        Values are integers: so it is how many FACTS "ahead" a WAY has between them at most."""
+        gaps = {(name, name): 0 for name in self.names}
+        for step, strict in self.steps.items():
+            gaps[step] = 1 if strict else 0
+        for between in self.names:
+            for one in self.names:
+                for other in self.names:
+                    if (one, between) in gaps and (between, other) in gaps:
+                        over = gaps[one, between] + gaps[between, other]
+                        gaps[one, other] = max(over, gaps.get((one, other), over))
+        return gaps
+
     def fits(self, thing):
         """Whether anything is a WORLD."""
         if not are_whole(thing) or len(thing) != len(self.names):

@@ -98,7 +98,7 @@ def _first_place(names, pieces, thing):
 
 def _place_in_deed(names, pieces, deed):
     """() of what is no DEED at all, the place of what is wrong in its THEN or ELSE, or None."""
-    if not _is_done(names, pieces, deed) and not _is_formed(names, deed):
+    if not _is_done(names, pieces, deed) and not is_formed(names, deed):
         return ()
     if deed[0] == "if":
         for number in (0, 1):
@@ -108,7 +108,7 @@ def _place_in_deed(names, pieces, deed):
     return None
 
 
-def _is_formed(names, deed):
+def is_formed(names, deed):
     """Whether it is a DEED but "do", whatever its THEN and ELSE are."""
     if not is_tuple_of(deed, 2, 5) or not isinstance(deed[0], str) or deed[0] not in FORMS:
         return False

@@ -71,14 +71,14 @@ def bounds_behind(rolling, tick):
     """The BOUNDS behind a tick."""
     wheel = wheel_of(rolling)
     need_whole(tick, 0, MOST_TICKS)
-    return rolled_to(wheel, tick).bounds()
+    return rolled_to(wheel, tick).bounds_now()
 
 
 def houses_behind(rolling, tick):
     """The HOUSES behind a tick."""
     wheel = wheel_of(rolling)
     need_whole(tick, 0, MOST_TICKS)
-    return rolled_to(wheel, tick).houses()
+    return rolled_to(wheel, tick).houses_now()
 
 
 def place_of(rolling, interval, tick):

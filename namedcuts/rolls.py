@@ -33,18 +33,18 @@ class Rolled:
         elif word == "move" and len(self.parts) >= roll[1]:
             self.parts[roll[1] - 1] = (self.parts[roll[1] - 1][0], roll[2])
 
-    def bounds(self):
+    def bounds_now(self):
         """The BOUNDS."""
         return (*[begin for begin, _ in self.parts[::-1]], self.opened)
 
-    def houses(self):
+    def houses_now(self):
         """The HOUSES."""
         return tuple([house for _, house in self.parts])
 
 
 def rolled_to(wheel, tick):
     """The parts behind the tick with a number."""
-    rolled = Rolled(wheel)
+    table = Rolled(wheel)
     for _ in range(tick):
-        rolled.roll_on()
-    return rolled
+        table.roll_on()
+    return table

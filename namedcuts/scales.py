@@ -8,10 +8,10 @@ from namedcuts.terms import ENDS
 
 
 class Values:
-    """The worths in a WORLD of an Order."""
+    """The worths in a WORLD, by the values of its NAMEs."""
 
-    def __init__(self, order, world):
-        self.known = {name: (0, worth) for name, worth in zip(order.names, world)}
+    def __init__(self, known):
+        self.known = {name: (0, number) for name, number in known.items()}
 
     def worth(self, bound):
         """The worth of a NAME or an end."""
@@ -33,9 +33,14 @@ class Values:
 
     def written(self, worth):
         """The value that is the worth."""
-        if worth[0] == 0:
-            return worth[1]
-        return "-" if worth[0] < 0 else "+"
+        return value_of(worth)
+
+
+def value_of(worth):
+    """The value that a worth in one WORLD is: an integer, "-" or "+"."""
+    if worth[0] == 0:
+        return worth[1]
+    return "-" if worth[0] < 0 else "+"
 
 
 class Bounds:

@@ -40,6 +40,6 @@ def _ended(frame, book, layout, script, world):
     see_layout(order, layout)
     see_script(order, pieces, script)
     need_world(order, world)
-    run = begun(Values(order, world), layout, steps_of(pieces, script, top_scope()))
+    run = begun(Values(dict(zip(order.names, world))), layout, steps_of(pieces, script, top_scope()))
     run.go_on()
     return run

@@ -28,7 +28,7 @@ class Window:
             raise BadNumber(moment)
         self.came.append(moment)
         self.table.roll_on()
-        gone = self._below(self._low_at(self.table.bounds()[0]))
+        gone = self._below(self._low_at(self.table.bounds_now()[0]))
         for key, _ in gone:
             del self.rows[key]
         return gone
