@@ -162,6 +162,6 @@ def term_words(term):
 
 def deed_words(deed):
     """The line of a DEED, of an "if" the first one."""
-    told = zip(BETWEEN[deed[0]], FORMS[deed[0]], deed[1:])
+    told = list(zip(BETWEEN[deed[0]], FORMS[deed[0]], deed[1:]))
     words = "".join([ahead + (term_words(thing) if sort == "term" else thing) for ahead, sort, thing in told])
     return f"{deed[0]} {words}"

@@ -1,8 +1,6 @@
 """A live table told by the words of the document, key by key; deeds to try; made without the program."""
 
-from random import Random
-
-from plain import HIGH, LOW, Plain, Stop, back
+from plain import HIGH, LOW, Plain, back
 from trials import mixed_term
 
 
@@ -55,9 +53,8 @@ class Made:
         self.editions.append(dict(parts))
 
     def behind(self, deed):
-        """The parts behind a deed; Stop if it can't be done."""
-        plain = Plain((tuple(self.values), ()), (), (), tuple(self.values.values()))
-        plain.parts = dict(self.parts)
+        """The parts behind a deed that can be done."""
+        plain = self.asked()
         plain.do_all((deed,))
         return plain.parts
 
@@ -91,8 +88,9 @@ class Made:
         return ("Outside", min(outside)) if outside else None
 
     def asked(self):
+        """A script on its way that stands where this stands."""
         plain = Plain((tuple(self.values), ()), (), (), tuple(self.values.values()))
-        plain.parts = self.parts
+        plain.parts = dict(self.parts)
         return plain
 
     def stop(self, deed):
@@ -168,5 +166,3 @@ def values_to_try(frame, chance):
                for one, word, other in facts):
             return values
 
-
-__all__ = ["Made", "PlainStore", "Random", "Stop"]

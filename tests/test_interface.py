@@ -147,7 +147,7 @@ class Interface(unittest.TestCase):
             defined = {node.name for node in tree.body if isinstance(node, (ast.FunctionDef, ast.ClassDef))}
             self.assertLessEqual(set(functions) | {title for home, title in CLASSES if home == name}, defined)
 
-    def test_no_other_public_modules_are_missing_a_docstring(self):
+    def test_each_module_tells_what_it_is_for(self):
         for path in sorted(PACKAGE.glob("*.py")):
             self.assertTrue(ast.get_docstring(ast.parse(path.read_text())), path)
 

@@ -219,6 +219,67 @@ class Language(unittest.TestCase):
                       if isinstance(item, ast.Attribute) and isinstance(item.ctx, ast.Store)}
             self.assertFalse(stored & set(methods), (name, node.name))
 
+    def methods(self):
+        """Pairs of a class and a method in it."""
+        for _, node in self.nodes(ast.ClassDef):
+            for item in node.body:
+                if isinstance(item, ast.FunctionDef):
+                    yield node, item
+
+    def stored_attributes(self):
+        return {node.attr for _, node in self.nodes(ast.Attribute) if isinstance(node.ctx, ast.Store)}
+
+    def test_l5_what_has_items_is_not_gone_through(self):
+        names = {}
+        for node, item in self.methods():
+            names.setdefault(node.name, set()).add(item.name)
+            if item.name == "__iter__":
+                self.assertEqual([type(row) for row in item.body], [ast.Raise])
+                self.assertEqual(item.body[0].exc.func.id, "TypeError")
+            if item.name in ("__len__", "__contains__"):
+                self.assertEqual([type(row) for row in item.body], [ast.Return])
+            if item.name == "__len__":
+                self.assertEqual(item.body[0].value.func.id, "len")
+        for name, found in names.items():
+            self.assertEqual("__getitem__" in found, "__iter__" in found, name)
+        # L2 Products, L25 and L5: beside such classes.
+        self.assertFalse([node for _, node in self.nodes(ast.ImportFrom) if node.module == "itertools"])
+        attributes = {node.attr for _, node in self.nodes(ast.Attribute)}
+        self.assertFalse(attributes & {"sort", "keys"})
+        for _, tree in self.trees():
+            self.assertNotRegex(ast.unparse(tree), r"Meta|metaclass|\(type\)")
+
+    def test_l5_l28_operators_and_properties_change_nothing(self):
+        properties = set()
+        for node, item in self.methods():
+            is_property = "property" in [ast.unparse(one) for one in item.decorator_list]
+            if is_property:
+                properties.add(item.name)
+            if is_property or item.name in ("__getitem__", "__contains__", "__eq__", "__len__"):
+                for row in ast.walk(item):
+                    self.assertNotIsInstance(row, (ast.AugAssign, ast.Delete), (node.name, item.name))
+                    if isinstance(row, ast.Assign):
+                        self.assertTrue(all(isinstance(target, ast.Name) for target in row.targets), item.name)
+        self.assertFalse(properties & {item.name for _, item in self.methods() if not item.decorator_list})
+        self.assertFalse(properties & self.stored_attributes())
+
+    def test_l6_exits_only_put_attributes_back(self):
+        for node, item in self.methods():
+            if item.name == "__exit__":
+                self.assertEqual([arg.arg for arg in item.args.args], ["self", "kind", "value", "trace"])
+                for row in item.body:
+                    self.assertIsInstance(row, ast.Assign, node.name)
+                    self.assertTrue(all(isinstance(one, ast.Attribute) for one in (*row.targets, row.value)))
+
+    def test_l19_what_is_caught(self):
+        own = {node.name for _, node in self.nodes(ast.ClassDef)}
+        for name, node in self.nodes(ast.ExceptHandler):
+            told = node.type.elts if isinstance(node.type, ast.Tuple) else [node.type]
+            self.assertLessEqual({one.id for one in told}, own, name)
+        for name, node in self.nodes(ast.Raise):
+            self.assertTrue(node.exc is None or isinstance(node.exc, ast.Call), name)
+            self.assertTrue(node.exc is None or node.exc.func.id in own | {"TypeError"}, name)
+
     def test_l20_is(self):
         for name, node in self.nodes(ast.Compare):
             for operator, right in zip(node.ops, node.comparators):
