@@ -154,8 +154,6 @@ def term_words(term):
     """The text of a TERM, or of a script TERM."""
     if isinstance(term, str):
         return term
-    if term[0] in EDGES:
-        return f"{term[0]}({term[1]})"
     inner = ", ".join([term_words(part) for part in term[1:]])
     return f"{term[0]}({inner})"
 

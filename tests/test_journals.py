@@ -73,6 +73,10 @@ class Journals(Refusals):
         for thing in wrong:
             self.refused(BadJournal, {"number": 0}, Store.of, FREE, (thing, thing))
             self.refused(BadJournal, {"number": 2}, Store.of, FREE, (*good, thing))
+        # One thing too many in what could be done.
+        for thing in (("do", ("move", "all", "hut"), 1), ("take", 1, 1), ("bind", "b", 5, 5), ("put", 1, "x", "x")):
+            self.assertEqual(len(Store.of(FREE, (*good, thing[:-1])).journal), 3)
+            self.refused(BadJournal, {"number": 2}, Store.of, FREE, (*good, thing))
         # What is refused at its place, though each thing could be done alone.
         self.refused(BadJournal, {"number": 1}, Store.of, FREE, (good[0], good[0]))
         self.refused(BadJournal, {"number": 1}, Store.of, (("a", "b"), (("a", "ahead", "b"),)),
